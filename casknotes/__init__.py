@@ -1,0 +1,1 @@
+"""Casknotes: casks in a public store, and notes that pass as money."""

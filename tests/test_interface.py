@@ -1,0 +1,82 @@
+"""The interface: each name stands in the file told, with the arguments told; and the sizes of the files."""
+
+import ast
+import importlib
+import inspect
+import os
+import unittest
+
+import casknotes
+
+FOLDER = os.path.dirname(casknotes.__file__)
+
+FUNCTIONS = {
+    "names": {"is_name": "(thing)", "is_mark": "(thing)", "is_grains": "(thing)", "is_day": "(thing)",
+              "mark_number": "(mark)"},
+    "weights": {"read_weight": "(text)", "total": "(weights)"},
+}
+
+CLASSES = {
+    "errors": {"NoText": "(row=0)", "Unknown": "(what)", "NoMark": "(what)", "NoNote": "(what)", "LostNote": "(what)",
+               "Unborne": "(lacks)", "NotBorne": "(lacks)", "Short": "(lacks)", "Twice": "(what)", "TooLate": "(day)",
+               "NoWare": "(ware)", "NoPlace": "(number)"},
+    "weights": {"Weight": "(top, bottom=1)"},
+}
+
+METHODS = {
+    ("weights", "Weight"): {"plus": "(self, other)", "less": "(self, other)", "times": "(self, top, bottom=1)",
+                            "is_below": "(self, other)", "is_nought": "(self)", "whole_up": "(self)"},
+}
+
+
+def module(name):
+    return importlib.import_module("casknotes." + name)
+
+
+def sources():
+    """The name and the text of each file of the package."""
+    names = sorted([name for name in os.listdir(FOLDER) if name != "__pycache__"])
+    found = []
+    for name in names:
+        with open(os.path.join(FOLDER, name), encoding="utf-8") as file:
+            found.append((name, file.read()))
+    return found
+
+
+class TestInterface(unittest.TestCase):
+    def test_functions_and_classes(self):
+        for table in [FUNCTIONS, CLASSES]:
+            for file, rows in table.items():
+                for name, arguments in rows.items():
+                    with self.subTest(file=file, name=name):
+                        thing = getattr(module(file), name)
+                        self.assertEqual(str(inspect.signature(thing)), arguments)
+                        self.assertEqual(thing.__module__, "casknotes." + file)
+
+    def test_methods_stand_in_the_class_itself(self):
+        for (file, name), rows in METHODS.items():
+            for method, arguments in rows.items():
+                with self.subTest(file=file, name=name, method=method):
+                    found = vars(getattr(module(file), name))[method]
+                    self.assertEqual(str(inspect.signature(found)), arguments)
+
+
+class TestSizes(unittest.TestCase):
+    def test_files_and_lines(self):
+        for name, text in sources():
+            with self.subTest(name):
+                self.assertTrue(name.endswith(".py"))
+                self.assertTrue(text.isascii() and "\t" not in text and "\r" not in text)
+                self.assertLess(len(text.splitlines()), 400)
+                self.assertLessEqual(max([len(line) for line in text.splitlines()]), 120)
+
+    def test_functions(self):
+        for name, text in sources():
+            for part in ast.walk(ast.parse(text)):
+                if isinstance(part, ast.FunctionDef):
+                    with self.subTest(name, function=part.name):
+                        self.assertLessEqual(part.end_lineno - part.lineno + 1, 40)
+
+
+if __name__ == "__main__":
+    unittest.main()
