@@ -21,6 +21,11 @@ def is_name(thing):
     return 1 <= len(thing) <= MOST_LETTERS and made_of(thing, LETTERS)
 
 
+def are_rising(names):
+    """Whether names rise, as texts do, each once."""
+    return all([one < other for one, other in zip(names, names[1:])])
+
+
 def is_mark(thing):
     """Whether it is the mark of a cask."""
     if not isinstance(thing, str):

@@ -14,6 +14,11 @@ FUNCTIONS = {
     "names": {"is_name": "(thing)", "is_mark": "(thing)", "is_grains": "(thing)", "is_day": "(thing)",
               "mark_number": "(mark)"},
     "weights": {"read_weight": "(text)", "total": "(weights)"},
+    "notes": {"by_age": "(notes)", "ranked": "(notes, rank=None)"},
+    "casks": {"is_parts": "(thing)", "casks_by_age": "(casks)"},
+    "drying": {"is_drying": "(thing)", "turns": "(day, until)", "dried": "(cask, drying, many=1)",
+               "dried_weight": "(weight, ware, drying, many=1)"},
+    "sums": {"sums_of": "(notes, stock)"},
 }
 
 CLASSES = {
@@ -21,11 +26,16 @@ CLASSES = {
                "Unborne": "(lacks)", "NotBorne": "(lacks)", "Short": "(lacks)", "Twice": "(what)", "TooLate": "(day)",
                "NoWare": "(ware)", "NoPlace": "(number)"},
     "weights": {"Weight": "(top, bottom=1)"},
+    "notes": {"Note": "(name, ware, grains, born=0)"},
+    "casks": {"Cask": "(mark, since, parts=None)"},
 }
 
 METHODS = {
     ("weights", "Weight"): {"plus": "(self, other)", "less": "(self, other)", "times": "(self, top, bottom=1)",
                             "is_below": "(self, other)", "is_nought": "(self)", "whole_up": "(self)"},
+    ("notes", "Note"): {"__eq__": "(self, other)", "__str__": "(self)", "__repr__": "(self)"},
+    ("casks", "Cask"): {"part": "(self, ware)", "weight_of": "(self, ware)", "lessened": "(self, ware, weight)",
+                        "__eq__": "(self, other)", "__len__": "(self)", "__str__": "(self)", "__repr__": "(self)"},
 }
 
 
