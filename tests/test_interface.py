@@ -19,6 +19,9 @@ FUNCTIONS = {
     "drying": {"is_drying": "(thing)", "turns": "(day, until)", "dried": "(cask, drying, many=1)",
                "dried_weight": "(weight, ware, drying, many=1)"},
     "sums": {"sums_of": "(notes, stock)"},
+    "sumchecks": {"sums_holds": "(notes, stock, thing)"},
+    "takings": {"taking": "(casks, ware, grains)", "taking_holds": "(casks, ware, grains, thing)"},
+    "shares": {"shares_of": "(loss, stock, notes)", "shares_holds": "(loss, stock, notes, thing)"},
 }
 
 CLASSES = {
@@ -28,6 +31,7 @@ CLASSES = {
     "weights": {"Weight": "(top, bottom=1)"},
     "notes": {"Note": "(name, ware, grains, born=0)"},
     "casks": {"Cask": "(mark, since, parts=None)"},
+    "stores": {"Store": "(drying=None, day=0)"},
 }
 
 METHODS = {
@@ -36,6 +40,15 @@ METHODS = {
     ("notes", "Note"): {"__eq__": "(self, other)", "__str__": "(self)", "__repr__": "(self)"},
     ("casks", "Cask"): {"part": "(self, ware)", "weight_of": "(self, ware)", "lessened": "(self, ware, weight)",
                         "__eq__": "(self, other)", "__len__": "(self)", "__str__": "(self)", "__repr__": "(self)"},
+    ("stores", "Store"): {"cask": "(self, day, mark, parts)", "weigh": "(self, day, mark, parts)",
+                          "burn": "(self, day, mark, ware, weight)", "make": "(self, day, name, ware, grains)",
+                          "part": "(self, day, name, pieces)", "merge": "(self, day, names, fresh)",
+                          "lose": "(self, day, name, fresh)", "draw": "(self, day, name)",
+                          "send": "(self, day, mark, first=None)", "pay": "(self, day, names, due, change=None)",
+                          "fire": "(self, day, marks)", "today": "(self)", "casks": "(self)", "notes": "(self)",
+                          "stock": "(self, ware, day=None)", "excess": "(self, day=None)",
+                          "promised": "(self, ware)", "fate": "(self, name)", "__len__": "(self)",
+                          "__eq__": "(self, other)"},
 }
 
 

@@ -4,7 +4,6 @@ import copy
 import itertools
 import unittest
 
-from casknotes.casks import Cask
 from casknotes.errors import NoDay, NoGrains, NoName
 from casknotes.notes import Note, by_age, ranked
 from casknotes.weights import Weight

@@ -35,11 +35,12 @@ OTHER_KINDS = [
     Cask("c1f", 30, (("ale", Weight(7, 2)),)), Cask("c0", 4), (Cask("c0", 4),), {"c0": Cask("c0", 4)},
     nested("ale", tuple, 30), nested("ale", list, 30), nested("ale", dict, 30),
     nested(1, tuple, 30), nested(1, list, 30), nested(1, dict, 30),
-    nested(Weight(1), tuple, 29), nested(Note("ann", "ale", 12), list, 29), nested(Cask("c0", 4), dict, 29), ("a",) * 5999, [1] * 5999, {at: "a" for at in range(2999)},
+    nested(Weight(1), tuple, 29), nested(Note("ann", "ale", 12), list, 29), nested(Cask("c0", 4), dict, 29),
+    ("a",) * 5999, [1] * 5999, {at: "a" for at in range(2999)},
 ]
 
 def spoiled(thing):
-    """What is like a tuple, but otherwise in one place at any depth: nothing of it is equal to it in kind and worth."""
+    """Things that are like this one, but otherwise in one place at any depth."""
     found = others(thing)
     if isinstance(thing, tuple):
         for at, part in enumerate(thing):
