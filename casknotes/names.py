@@ -21,9 +21,9 @@ def is_name(thing):
     return 1 <= len(thing) <= MOST_LETTERS and made_of(thing, LETTERS)
 
 
-def are_rising(names):
-    """Whether names rise, as texts do, each once."""
-    return all([one < other for one, other in zip(names, names[1:])])
+def are_rising(things):
+    """Whether things of one kind, as names, rise, each once."""
+    return all([one < other for one, other in zip(things, things[1:])])
 
 
 def is_mark(thing):

@@ -22,6 +22,10 @@ FUNCTIONS = {
     "sumchecks": {"sums_holds": "(notes, stock, thing)"},
     "takings": {"taking": "(casks, ware, grains)", "taking_holds": "(casks, ware, grains, thing)"},
     "shares": {"shares_of": "(loss, stock, notes)", "shares_holds": "(loss, stock, notes, thing)"},
+    "joining": {"joined": "(one, other)"},
+    "paying": {"few_notes": "(grains, due)"},
+    "paychecks": {"few_holds": "(grains, due, thing)"},
+    "deeds": {"is_deed": "(thing)", "done": "(store, day, deed)"},
 }
 
 CLASSES = {
