@@ -26,6 +26,8 @@ FUNCTIONS = {
     "paying": {"few_notes": "(grains, due)"},
     "paychecks": {"few_holds": "(grains, due, thing)"},
     "deeds": {"is_deed": "(thing)", "done": "(store, day, deed)"},
+    "booktexts": {"show_book": "(book)", "read_book": "(text)"},
+    "findings": {"finding_holds": "(thing)"},
 }
 
 CLASSES = {
@@ -36,6 +38,8 @@ CLASSES = {
     "notes": {"Note": "(name, ware, grains, born=0)"},
     "casks": {"Cask": "(mark, since, parts=None)"},
     "stores": {"Store": "(drying=None, day=0)"},
+    "books": {"Book": "(drying=None)"},
+    "desk": {"Desk": "(drying=None)"},
 }
 
 METHODS = {
@@ -53,6 +57,9 @@ METHODS = {
                           "stock": "(self, ware, day=None)", "excess": "(self, day=None)",
                           "promised": "(self, ware)", "fate": "(self, name)", "__len__": "(self)",
                           "__eq__": "(self, other)"},
+    ("books", "Book"): {"tell": "(self, day, deed)", "strike": "(self, number)", "deed": "(self, number)",
+                        "store": "(self)", "results": "(self)", "__len__": "(self)", "__eq__": "(self, other)"},
+    ("desk", "Desk"): {"say": "(self, row)"},
 }
 
 
