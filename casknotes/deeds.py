@@ -81,9 +81,9 @@ def is_piece(thing):
 
 def are_pieces(thing):
     """Whether it is a tuple of two or more pieces, their names unlike."""
-    if not isinstance(thing, tuple) or not all([is_piece(piece) for piece in thing]):
+    if not isinstance(thing, tuple) or len(thing) < 2:
         return False
-    return are_names(tuple([name for name, _ in thing]), 2)
+    return all([is_piece(piece) for piece in thing]) and are_unlike([name for name, _ in thing])
 
 
 def done(store, day, deed):

@@ -65,6 +65,13 @@ class TestFewHolds(unittest.TestCase):
                 self.judged(grains, 6, (chosen, paper), over == [])
                 self.assertEqual(is_few(grains, 6, (chosen, paper)), over == [])
 
+    def test_more_that_are_no_pairs(self):
+        grains, chosen, paper = (3, 5), (0, 1), least_paper((3, 5))
+        self.judged(grains, 6, (chosen, paper), True)
+        for more in [(8, 2, 0), (9,), (9, 9, 9), (8, 3, True), (9, None), (9, -1), (9, True), (9, "9"), [9, 9], 9, None, ()]:
+            self.judged(grains, 6, (chosen, paper[:2] + (paper[2] + (more,),)), False)
+        self.judged(grains, 6, (chosen, paper[:2] + (paper[2] + ((9, 9),),)), True)
+
     def test_rows_that_are_not_closed(self):
         grains = (3, 5, 8)
         chosen, paper = (0, 2), least_paper((3, 5, 8))
